@@ -1,0 +1,1 @@
+"""Glossring: told words in a document of parts."""

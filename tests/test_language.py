@@ -1,0 +1,132 @@
+"""Checks of the package's files against those rules of LANGUAGE.md that can be read off the files."""
+
+import ast
+import builtins
+import pathlib
+import re
+import unittest
+
+PACKAGE = pathlib.Path(__file__).resolve().parent.parent / "gloss"
+
+NODES = """Module Import ImportFrom alias FunctionDef ClassDef arguments arg Lambda
+Assign AugAssign If While For Return Break Continue Pass Raise Try ExceptHandler Expr
+Constant List Tuple Dict Set BinOp Add Sub Mult FloorDiv Mod Pow BitAnd BitOr BitXor LShift RShift Invert
+UnaryOp UAdd USub Not Compare Eq NotEq Lt LtE Gt GtE Is IsNot In NotIn BoolOp And Or IfExp
+Call keyword Attribute Subscript Slice ListComp comprehension JoinedStr FormattedValue Name Load Store""".split()
+
+OWN_NAMES = """len range enumerate zip min max sum abs sorted reversed int str bool list tuple dict set frozenset
+isinstance ord repr any all divmod Exception ValueError TypeError KeyError IndexError LookupError ZeroDivisionError
+ArithmeticError OverflowError RuntimeError NotImplementedError AttributeError StopIteration""".split()
+
+OWN_METHODS = """append clear copy count endswith extend find get index insert isalnum isalpha isdigit islower isspace
+isupper items join keys ljust lower lstrip partition pop remove replace reverse rfind rjust rpartition rsplit rstrip
+setdefault split splitlines startswith strip update upper values zfill bit_length""".split()
+
+PYTHON_ATTRIBUTES = {name for kind in (str, int, list, tuple, dict, set, bytes) for name in dir(kind)}
+
+METHODS_WITH_UNDERSCORES = ("__init__", "__eq__", "__repr__", "__str__", "__len__")
+
+WORDS_NOWHERE = re.compile(
+    r"\b(type|typing|typing_extensions|enum|Enum|IntEnum|StrEnum|Flag|IntFlag|Generic|Protocol|ABC|ABCMeta|namedtuple"
+    r"|NamedTuple|TypedDict|TYPE_CHECKING|abstractmethod)\b|dataclass|overload|contextmanager")
+
+
+def files():
+    return sorted(path for path in PACKAGE.rglob("*") if path.is_file() and "__pycache__" not in path.parts)
+
+
+def nodes():
+    for path in files():
+        for node in ast.walk(ast.parse(path.read_text())):
+            yield path, node
+
+
+class Language(unittest.TestCase):
+    def hold(self, rule, path, node, holds):
+        self.assertTrue(holds, f"{rule}: {path.name}:{getattr(node, 'lineno', 0)}")
+
+    def test_files(self):
+        self.assertTrue(files())
+        for path in files():
+            self.assertRegex(path.name, r"^([a-z][a-z0-9_]*|__init__|__main__)\.py$", "L1, L14")
+
+    def test_rows_and_signs(self):
+        for path in files():
+            text = path.read_text(encoding="utf-8")
+            self.assertEqual(re.findall(r"[^ -~\n]", text), [], f"L14: {path.name}")
+            self.assertIsNone(WORDS_NOWHERE.search(text), f"L17: {path.name}")
+            rows = text.splitlines()
+            self.assertLessEqual(len(rows), 400, f"L10: {path.name}")
+            self.assertLessEqual(max([len(row) for row in rows], default=0), 120, f"L10: {path.name}")
+
+    def test_nodes(self):
+        for path, node in nodes():
+            self.hold(f"L6, L7 {type(node).__name__}", path, node, type(node).__name__ in NODES)
+
+    def test_imports(self):
+        for path, node in nodes():
+            if isinstance(node, ast.Import):
+                self.hold("L16", path, node, path.name == "__main__.py" and [a.name for a in node.names] == ["sys"])
+            if isinstance(node, ast.ImportFrom):
+                self.hold("L2", path, node, node.level == 0 and node.module.startswith("gloss."))
+                self.hold("L2", path, node, "*" not in [a.name for a in node.names])
+
+    def test_functions(self):
+        for path, node in nodes():
+            if isinstance(node, ast.FunctionDef):
+                self.hold("L10", path, node, node.end_lineno - node.lineno < 40)
+                self.hold("L4", path, node, not (node.decorator_list or node.args.vararg or node.args.kwarg
+                                                 or node.args.kwonlyargs or node.args.posonlyargs))
+                self.hold("L12", path, node, node.name[0] != "_" or node.name in METHODS_WITH_UNDERSCORES)
+
+    def test_classes(self):
+        for path, node in nodes():
+            if isinstance(node, ast.ClassDef):
+                self.hold("L5", path, node, len(node.bases) <= 1 and not node.decorator_list and not node.keywords)
+                self.hold("L5", path, node, all(isinstance(row, (ast.FunctionDef, ast.Pass)) for row in node.body))
+
+    def test_names(self):
+        for path, node in nodes():
+            if isinstance(node, ast.Name):
+                self.hold(f"L12 {node.id}", path, node, node.id[0] != "_")
+                if isinstance(node.ctx, ast.Load):
+                    known = not hasattr(builtins, node.id) or node.id in OWN_NAMES
+                    self.hold(f"L8 {node.id}", path, node, known or path.name == "__main__.py")
+                else:
+                    self.hold(f"L15 {node.id}", path, node, not hasattr(builtins, node.id))
+            if isinstance(node, ast.arg):
+                self.hold(f"L15 {node.arg}", path, node, node.arg[0] != "_" and not hasattr(builtins, node.arg))
+
+    def test_attributes(self):
+        for path, node in nodes():
+            if isinstance(node, ast.Attribute):
+                free = node.attr in OWN_METHODS + ["add", "discard", "title", "__init__"]
+                self.hold(f"L25 {node.attr}", path, node, free or node.attr not in PYTHON_ATTRIBUTES)
+
+    def test_statements(self):
+        for path, node in nodes():
+            if isinstance(node, ast.Assign):
+                self.hold("L6", path, node, len(node.targets) == 1)
+            if isinstance(node, (ast.For, ast.While)):
+                self.hold("L6", path, node, not node.orelse)
+            if isinstance(node, ast.Try):
+                self.hold("L6", path, node, not node.finalbody)
+            if isinstance(node, ast.ExceptHandler):
+                self.hold("L19", path, node, node.type is not None)
+            if isinstance(node, ast.ListComp):
+                self.hold("L7", path, node, len(node.generators) == 1 and len(node.generators[0].ifs) <= 1)
+
+    def test_values(self):
+        for path, node in nodes():
+            if isinstance(node, ast.Constant):
+                kind = node.value is None or isinstance(node.value, (int, str))
+                self.hold("L7", path, node, kind and "%" not in str(node.value))
+            if isinstance(node, ast.Compare):
+                for operator, other in zip(node.ops, node.comparators):
+                    if isinstance(operator, (ast.Is, ast.IsNot)):
+                        single = isinstance(other, ast.Constant) and other.value in (None, True, False)
+                        self.hold("L20", path, node, single)
+
+
+if __name__ == "__main__":
+    unittest.main()
