@@ -31,6 +31,11 @@ WORDS_NOWHERE = re.compile(
     r"|NamedTuple|TypedDict|TYPE_CHECKING|abstractmethod)\b|dataclass|overload|contextmanager")
 
 
+NAMES_NOWHERE = """register mro elements open input version_info with_traceback add_note attrgetter breakpoint builtins
+compile copyright credits delattr dir eval exec exit gc getattr globals hasattr help id importlib license locals
+methodcaller os quit setattr super vars""".split()
+
+
 def files():
     return sorted(path for path in PACKAGE.rglob("*") if path.is_file() and "__pycache__" not in path.parts)
 
@@ -39,6 +44,27 @@ def nodes():
     for path in files():
         for node in ast.walk(ast.parse(path.read_text())):
             yield path, node
+
+
+def module_of(path):
+    return ".".join(path.relative_to(PACKAGE.parent).with_suffix("").parts)
+
+
+def names_at_top(path):
+    """The names that the file binds at its top, imports left out."""
+    found = []
+    for node in ast.parse(path.read_text()).body:
+        if isinstance(node, (ast.FunctionDef, ast.ClassDef)):
+            found.append(node.name)
+        elif isinstance(node, ast.Assign):
+            found.append(node.targets[0].id)
+    return found
+
+
+def imports_of(path):
+    """Tuples (module, name) of all that the file imports."""
+    rows = [node for node in ast.parse(path.read_text()).body if isinstance(node, ast.ImportFrom)]
+    return [(node.module, alias.name) for node in rows for alias in node.names]
 
 
 class Language(unittest.TestCase):
@@ -70,6 +96,41 @@ class Language(unittest.TestCase):
             if isinstance(node, ast.ImportFrom):
                 self.hold("L2", path, node, node.level == 0 and node.module.startswith("gloss."))
                 self.hold("L2", path, node, "*" not in [a.name for a in node.names])
+
+    def test_names_are_drawn_from_the_file_that_defines_them(self):
+        defined = {module_of(path): names_at_top(path) for path in files()}
+        for path in files():
+            for module, name in imports_of(path):
+                self.assertIn(name, defined.get(module, []), f"L16: {path.name}")
+
+    def test_no_files_draw_from_one_another(self):
+        left = {module_of(path): {module for module, name in imports_of(path)} for path in files()}
+        while left:
+            free = [module for module, drawn in left.items() if not drawn & set(left)]
+            self.assertTrue(free, f"L16: {sorted(left)}")
+            left = {module: drawn for module, drawn in left.items() if module not in free}
+
+    def test_each_name_once(self):
+        for path in files():
+            names = names_at_top(path) + [name for module, name in imports_of(path)]
+            self.assertEqual(sorted(names), sorted(set(names)), f"L15: {path.name}")
+
+    def test_no_local_is_called_like_a_class_or_an_import(self):
+        for path in files():
+            top = ast.parse(path.read_text())
+            taken = {name for module, name in imports_of(path)}
+            taken |= {node.name for node in top.body if isinstance(node, ast.ClassDef)}
+            for node in ast.walk(top):
+                if isinstance(node, ast.arg):
+                    self.hold(f"L15 {node.arg}", path, node, node.arg not in taken)
+                if isinstance(node, ast.Name) and isinstance(node.ctx, ast.Store):
+                    self.hold(f"L15 {node.id}", path, node, node.id not in taken)
+
+    def test_names_that_are_not_used(self):
+        for path, node in nodes():
+            for field in ("id", "arg", "attr", "name"):
+                name = getattr(node, field, None)
+                self.hold(f"L17 {name}", path, node, name not in NAMES_NOWHERE)
 
     def test_functions(self):
         for path, node in nodes():
