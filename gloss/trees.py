@@ -17,6 +17,21 @@ def things_of(doc):
     return [pair[0] for pair in things_with_homes(doc, (0,))]
 
 
+# Say rows and meanings alike, as tuples (number, words, home), in the order of things.
+def rows_with_homes(doc):
+    found = []
+    for thing, path in things_with_homes(doc, (0,)):
+        if thing[0] == "say":
+            found.append((thing[1], thing[2], path))
+        elif thing[0] == "tell":
+            found.append((thing[1], thing[5], path))
+    return found
+
+
+def tellings_numbers(doc):
+    return [thing[1] for thing in things_of(doc) if thing[0] == "tell"]
+
+
 def find_with_home(doc, n):
     if n == 0:
         return (doc, ())

@@ -67,6 +67,51 @@ def imports_of(path):
     return [(node.module, alias.name) for node in rows for alias in node.names]
 
 
+KEYWORDS = {"sorted": ("key", "reverse"), "min": ("key", "default"), "max": ("key", "default"),
+            "sum": ("start",), "enumerate": ("start",), "zip": ("strict",)}
+
+WALKED = ("zip", "enumerate", "reversed", "range")
+WALKED_METHODS = ("items", "keys", "values")
+WALKERS = ("list", "tuple", "dict", "sorted", "sum", "any", "all", "enumerate", "zip")
+
+
+def called(node):
+    """The name of Python's own or of the program that a node calls, else None."""
+    return node.func.id if isinstance(node, ast.Call) and isinstance(node.func, ast.Name) else None
+
+
+def called_method(node):
+    return node.func.attr if isinstance(node, ast.Call) and isinstance(node.func, ast.Attribute) else None
+
+
+def with_parents():
+    for path in files():
+        for parent in ast.walk(ast.parse(path.read_text())):
+            for node in ast.iter_child_nodes(parent):
+                yield path, parent, node
+
+
+def walks(parent, node):
+    if isinstance(parent, (ast.For, ast.comprehension)):
+        return parent.iter is node
+    if called(parent) in WALKERS:
+        return parent.args[0] is node or called(parent) == "zip"
+    if called(parent) in ("min", "max"):
+        return parent.args == [node]
+    return called_method(parent) == "join" and isinstance(parent.func.value, ast.Constant)
+
+
+def values_and_methods():
+    values = set()
+    methods = set()
+    for path, node in nodes():
+        if isinstance(node, ast.Attribute) and isinstance(node.ctx, ast.Store):
+            values.add(node.attr)
+        if isinstance(node, ast.ClassDef):
+            methods |= {row.name for row in node.body if isinstance(row, ast.FunctionDef)}
+    return values, methods
+
+
 class Language(unittest.TestCase):
     def hold(self, rule, path, node, holds):
         self.assertTrue(holds, f"{rule}: {path.name}:{getattr(node, 'lineno', 0)}")
@@ -163,6 +208,27 @@ class Language(unittest.TestCase):
             if isinstance(node, ast.Attribute):
                 free = node.attr in OWN_METHODS + ["add", "discard", "title", "__init__"]
                 self.hold(f"L25 {node.attr}", path, node, free or node.attr not in PYTHON_ATTRIBUTES)
+
+    def test_no_name_is_a_method_and_a_value(self):
+        values, methods = values_and_methods()
+        self.assertEqual(values & methods, set(), "L18")
+
+    def test_keywords(self):
+        for path, node in nodes():
+            if isinstance(node, ast.Call) and (hasattr(builtins, str(called(node))) or called_method(node)):
+                for keyword in node.keywords:
+                    self.hold(f"L22 {keyword.arg}", path, node, keyword.arg in KEYWORDS.get(called(node), ()))
+
+    def test_walked_at_once(self):
+        for path, parent, node in with_parents():
+            if called(node) in WALKED or called_method(node) in WALKED_METHODS:
+                self.hold("L23", path, node, walks(parent, node))
+
+    def test_sets_are_not_kept(self):
+        for path, parent, node in with_parents():
+            if called(node) in ("set", "frozenset") or isinstance(node, ast.Set):
+                beside = isinstance(parent, (ast.Compare, ast.BinOp)) or called(parent) in ("sorted", "len")
+                self.hold("L24", path, node, beside)
 
     def test_statements(self):
         for path, node in nodes():

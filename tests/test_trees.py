@@ -2,11 +2,9 @@ import copy
 import unittest
 
 import samples
-from samples import EMPTY, SIXTY_FIGURES, WIDE, chain, document, part, say, tell
-from gloss.errors import GlossError, NoPlace, NoThing
+from samples import EMPTY, WIDE, Refusals, chain, document, part, say, tell
+from gloss.errors import NoPlace, NoThing
 from gloss.trees import find_thing, home, placed, swapped, taken, things_of
-
-FAR = (1000, SIXTY_FIGURES + 500, 10 ** 60 - 1)
 
 
 def all_samples():
@@ -66,20 +64,6 @@ def where(doc, n):
     return into, [thing[1] for thing in straight_in(doc, into)].index(n)
 
 
-class Refusals(unittest.TestCase):
-    def refused(self, error, ask, *handed):
-        kept = copy.deepcopy(handed)
-        with self.assertRaises(GlossError, msg=handed) as caught:
-            ask(*handed)
-        self.assertIs(type(caught.exception), error, handed)
-        self.assertEqual(handed, kept)
-
-    def unknown_numbers(self, doc):
-        numbers = samples.numbers_of(doc)
-        beyond = FAR + (max(numbers, default=0) + 1,)
-        return [-1, -10 ** 59] + [-n for n in numbers] + [n for n in beyond if n not in numbers]
-
-
 class ThingsOf(unittest.TestCase):
     def test_no_things(self):
         self.assertEqual(things_of(EMPTY), [])
@@ -133,7 +117,7 @@ class FindThing(Refusals):
 
     def test_numbers_that_no_thing_has(self):
         for doc in all_samples():
-            for n in self.unknown_numbers(doc):
+            for n in samples.unknown_numbers(doc):
                 self.refused(NoThing, find_thing, doc, n)
 
     def test_a_gap_among_the_numbers(self):
@@ -174,7 +158,7 @@ class Home(Refusals):
 
     def test_numbers_that_no_thing_has(self):
         for doc in all_samples():
-            for n in self.unknown_numbers(doc):
+            for n in samples.unknown_numbers(doc):
                 self.refused(NoThing, home, doc, n)
 
 
@@ -202,7 +186,7 @@ class Taken(Refusals):
 
     def test_refused(self):
         for doc in all_samples():
-            for n in [0] + self.unknown_numbers(doc):
+            for n in [0] + samples.unknown_numbers(doc):
                 self.refused(NoThing, taken, doc, n)
 
     def test_what_is_taken_out_is_there_no_more(self):
@@ -247,7 +231,7 @@ class Placed(Refusals):
     def test_no_such_part(self):
         for doc in all_samples():
             leaves = [n for n in samples.numbers_of(doc) if n not in parts_of(doc)]
-            for into in leaves + self.unknown_numbers(doc):
+            for into in leaves + samples.unknown_numbers(doc):
                 self.refused(NoThing, placed, doc, into, 0, say(500))
 
     def test_no_such_place(self):
@@ -261,7 +245,7 @@ class Placed(Refusals):
     def test_no_such_part_and_no_such_place(self):
         for doc in (EMPTY, WIDE, chain(8)):
             leaves = [n for n in samples.numbers_of(doc) if n not in parts_of(doc)]
-            for into in leaves + self.unknown_numbers(doc):
+            for into in leaves + samples.unknown_numbers(doc):
                 for at in (-1, 1000, 10 ** 59):
                     self.refused(NoThing, placed, doc, into, at, say(500))
 
@@ -305,7 +289,7 @@ class Swapped(Refusals):
 
     def test_refused(self):
         for doc in all_samples():
-            for n in [0] + self.unknown_numbers(doc):
+            for n in [0] + samples.unknown_numbers(doc):
                 self.refused(NoThing, swapped, doc, n, say(500))
 
 
